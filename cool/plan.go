@@ -21,12 +21,11 @@ func checkCommands(l []api.Range) api.Errno {
 	return firstError(checkCount(len(l), 0, api.MaxCoolCommands), wrong)
 }
 
-// CheckPlan returns the first error of a plan for a table, and the index of its bank.
+// CheckPlan returns the first error of a plan for a table, and the index of the bank
+// whose commands are wrong. The table is an argument, so its error has no index here.
 func CheckPlan(t api.CoolTable, p api.CoolPlan) (int, api.Errno) {
-	if b, e := CheckTable(t); e != api.OK {
-		return b, e
-	}
-	if e := checkSame(len(t.Banks), len(p.Commands)); e != api.OK {
+	x, e := tableOf(t)
+	if e := firstError(e, checkSame(len(x.Banks), len(p.Commands))); e != api.OK {
 		return 0, e
 	}
 	return firstWrong(p.Commands, checkCommands)

@@ -31,12 +31,41 @@ func commandsCases() []commandsCase {
 	}
 }
 
-func TestP8_3CheckPlan(t *testing.T) {
+// TestP8_3TableHasNoIndex has tables whose own index is that of a later bank, too: only
+// wrong commands have an index in CheckPlan.
+func TestP8_3TableHasNoIndex(t *testing.T) {
+	later := 0
 	for i, x := range tableCases() {
-		if at, e := cool.CheckPlan(x.t, api.CoolPlan{Commands: make([][]api.Range, len(x.t.Banks))}); at != x.at || e != x.want {
+		for j, p := range []api.CoolPlan{{Commands: make([][]api.Range, len(x.t.Banks))}, {}, plan(nil, ranges(31, 31))} {
+			if at, e := cool.CheckPlan(x.t, p); x.want != api.OK && (at != 0 || e != x.want) {
+				t.Error(i, j, at, e)
+			}
+		}
+		if x.at > 0 {
+			later++
+		}
+	}
+	if later < 3 {
+		t.Error("too few tables with a wrong later bank", later)
+	}
+	good := bank(0, 0, 0)
+	for i, x := range []struct {
+		t    api.CoolTable
+		p    api.CoolPlan
+		want api.Errno
+	}{
+		{table(0, 0, good, bank(1, 0, 0)), plan(), api.ErrOrder}, {table(0, 0, good, bank(1, 0, 0)), plan(nil, nil), api.ErrOrder}, {table(0, 0, good, good, bank(0, 0, 9)), api.CoolPlan{}, api.ErrRange},
+		{table(0, 0, good, bank(1, 0, 0)), plan(nil, ranges(31, 31)), api.ErrOrder}, {table(0, 0, good, good, good, bank(-1, 0, 0)), plan(nil, ranges(1, 0), nil, nil), api.ErrRange},
+	} {
+		if at, e := cool.CheckPlan(x.t, x.p); at != 0 || e != x.want {
 			t.Error(i, at, e)
 		}
-		if at, e := cool.CheckPlan(x.t, plan(ranges(31, 31))); x.want != api.OK && (at != x.at || e != x.want) {
+	}
+}
+
+func TestP8_3CheckPlan(t *testing.T) {
+	for i, x := range tableCases() {
+		if at, e := cool.CheckPlan(x.t, api.CoolPlan{Commands: make([][]api.Range, len(x.t.Banks))}); at != 0 || e != x.want {
 			t.Error(i, at, e)
 		}
 	}
